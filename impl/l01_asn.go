@@ -34,6 +34,8 @@ const blank = ' '
 
 // The kinds of pairs are numbered as they stand in Asn: Eqs, Nes, Cells, Segs.
 const kinds = 4
+const kindCells = 2
+const kindSegs = 3
 
 var marks = [kinds]string{"=", "!", ">", ".."}
 
