@@ -100,6 +100,11 @@ func readProgBy(text string) (cmds, bool) {
 	if len(text) > 2000 {
 		return nil, false
 	}
+	return progBy(text)
+}
+
+// progBy takes a text of any length.
+func progBy(text string) (cmds, bool) {
 	if text == "" {
 		return nil, true
 	}
