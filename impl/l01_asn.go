@@ -196,17 +196,22 @@ func replaced(x int, t int, by int) int {
 	return x
 }
 
-func Subst(a Asn, t int, by int) (Asn, bool) {
-	if !AsnOk(a) || !TermOk(t) || !TermOk(by) || t == Nil {
-		return Asn{}, false
-	}
+// substituted takes terms that are right, be there more pairs than an assertion can have.
+func substituted(a Asn, t int, by int) Asn {
 	var out [kinds][]Pair
 	for kind, l := range listsOf(a) {
 		for _, p := range l {
 			out[kind] = append(out[kind], Pair{A: replaced(p.A, t, by), B: replaced(p.B, t, by)})
 		}
 	}
-	return asnOf(out), true
+	return asnOf(out)
+}
+
+func Subst(a Asn, t int, by int) (Asn, bool) {
+	if !AsnOk(a) || !TermOk(t) || !TermOk(by) || t == Nil {
+		return Asn{}, false
+	}
+	return substituted(a, t, by), true
 }
 
 func Star(a Asn, b Asn) (Asn, bool) {
@@ -224,7 +229,7 @@ func Star(a Asn, b Asn) (Asn, bool) {
 	return both, true
 }
 
-// termsIn tells for each term whether it is there; a has to be AsnOk, else there is no place for some.
+// termsIn tells for each term whether it is there; all of a have to be TermOk, else there is no place for some.
 func termsIn(a Asn) [Terms]bool {
 	var in [Terms]bool
 	for _, l := range listsOf(a) {

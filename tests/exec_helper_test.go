@@ -50,11 +50,8 @@ func onceBy(l pairs) pairs {
 	return out
 }
 
-// tidyBy goes through Eqs once: those ahead of a place have no name there, so that nothing changes them any more.
-func tidyBy(a impl.Asn) (impl.Asn, bool) {
-	if !impl.AsnOk(a) {
-		return impl.Asn{}, false
-	}
+// tidiedBy goes through Eqs once, be they as many as they are: those ahead of a place have no name there, so that nothing changes them any more.
+func tidiedBy(a impl.Asn) impl.Asn {
 	l := clonedLists(a)
 	for i := 0; i < len(l[0]); {
 		less, more := min(l[0][i].A, l[0][i].B), max(l[0][i].A, l[0][i].B)
@@ -82,7 +79,14 @@ func tidyBy(a impl.Asn) (impl.Asn, bool) {
 		}
 		return false
 	})
-	return asnOf(l), true
+	return asnOf(l)
+}
+
+func tidyBy(a impl.Asn) (impl.Asn, bool) {
+	if !impl.AsnOk(a) {
+		return impl.Asn{}, false
+	}
+	return tidiedBy(a), true
 }
 
 func exposeBy(open impl.Asn, t int) (impl.Asn, int, bool) {
@@ -178,8 +182,8 @@ func doCaseBy(open impl.Asn, c impl.Cmd) (impl.Asn, int) {
 
 // putOnBy tells what stands behind then, and whether something does.
 func putOnBy(l asns, a impl.Asn) (asns, bool) {
-	tidy, ok := tidyBy(a)
-	if !ok || !roomBy(tidy) || len(l) == 40 {
+	tidy := tidiedBy(a)
+	if !roomBy(tidy) || len(l) == 40 {
 		return l, false
 	}
 	return append(slices.Clone(l), tidy), true
@@ -222,8 +226,8 @@ func assumedBy(l asns, x, y int, eq bool) (asns, bool) {
 		if !roomBy(asnOf(m)) {
 			return nil, false
 		}
-		if tidy, _ := tidyBy(asnOf(m)); len(casesBy(asnOf(m))) > 0 {
-			out = append(out, tidy)
+		if len(casesBy(asnOf(m))) > 0 {
+			out = append(out, tidiedBy(asnOf(m)))
 		}
 	}
 	return out, true

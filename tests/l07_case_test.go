@@ -282,26 +282,33 @@ func TestDoCaseGivesUp(t *testing.T) {
 	}
 }
 
-// What is done to a case is told even where that is more than an assertion can have; it can't be put then.
+// What is done to a case is told even where that is more than an assertion can have; nothing takes it for one, but it is put once it is tidied.
 func TestDoCaseOfWhatIsFull(t *testing.T) {
-	twelve := impl.Asn{Eqs: repeated(impl.Pair{A: 2, B: 2}, impl.MaxPure)}
-	got, code := impl.DoCase(twelve, mustCmd(t, "a := c"))
-	if code != impl.VdHolds || len(got.Eqs) != impl.MaxPure+1 || got.Eqs[impl.MaxPure] != (impl.Pair{A: 1, B: 3}) {
-		t.Errorf("DoCase of twelve = %s, %d", describe(got), code)
-	}
-	if l, code := checkExecOne(t, twelve, mustCmd(t, "a := c")); code != impl.VdGave || len(l) != 0 {
-		t.Errorf("ExecOne of twelve = %v, %d", l, code)
-	}
-	got, code = impl.DoCase(brim(t, "a>nil"), mustCmd(t, "new d"))
-	if code != impl.VdHolds || len(got.Cells) != impl.MaxSpace+1 || got.Cells[impl.MaxSpace] != (impl.Pair{A: 4}) {
-		t.Errorf("DoCase of six = %s, %d", describe(got), code)
-	}
-	if l, code := checkExecOne(t, brim(t, "a>nil"), mustCmd(t, "new d")); code != impl.VdGave || len(l) != 0 {
-		t.Errorf("ExecOne of six = %v, %d", l, code)
-	}
-	eleven := impl.Asn{Eqs: repeated(impl.Pair{A: 2, B: 2}, impl.MaxPure-1)}
-	if l, code := checkExecOne(t, eleven, mustCmd(t, "a := c")); code != impl.VdHolds || wordsOfAll(l) != "a=c" {
-		t.Errorf("ExecOne of eleven = %v, %d", l, code)
+	for _, c := range []struct {
+		a    impl.Asn
+		cmd  string
+		kind int
+		want string
+	}{
+		{impl.Asn{Eqs: repeated(impl.Pair{A: 2, B: 2}, impl.MaxPure)}, "a := c", 0, "a=c"},
+		{impl.Asn{Eqs: repeated(impl.Pair{A: 2, B: 2}, impl.MaxPure), Cells: pairs{{A: 2, B: 3}}}, "a := [b]", 0, "a=c b>c"},
+		{brim(t, "a>nil"), "new d", 2, "gave"},
+	} {
+		got, code := impl.DoCase(c.a, mustCmd(t, c.cmd))
+		was, is := listsOf(c.a), listsOf(got)
+		if code != impl.VdHolds || impl.AsnOk(got) || len(is[c.kind]) != len(was[c.kind])+1 {
+			t.Errorf("DoCase(%s, %q) = %s, %d", asnWord(c.a), c.cmd, describe(got), code)
+		}
+		if l, ok := impl.Put(nil, got); ok || len(l) != 0 {
+			t.Errorf("Put(%s) = %v", describe(got), l)
+		}
+		if tidy, ok := impl.Tidy(got); ok || !isZero(tidy) {
+			t.Errorf("Tidy(%s) = %s", describe(got), describe(tidy))
+		}
+		checkDoCase(t, c.a, mustCmd(t, c.cmd))
+		if l, v := checkExecOne(t, c.a, mustCmd(t, c.cmd)); outcome(l, v) != c.want {
+			t.Errorf("ExecOne(%s, %q) = %v, %d", asnWord(c.a), c.cmd, l, v)
+		}
 	}
 }
 

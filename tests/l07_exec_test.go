@@ -235,6 +235,121 @@ func TestExecWantsRoom(t *testing.T) {
 	}
 }
 
+// times has a word so many times.
+func times(n int, word string) string {
+	return strings.TrimSuffix(strings.Repeat(word+" ", n), " ")
+}
+
+// twelveAlike are twelve that differ: each two variables, and two of them with nil.
+const twelveAlike = "a=b a=c a=d a=e b=c b=d b=e c=d c=e d=e a=nil b=nil"
+
+// Eqs are full, and one more stands behind them: whether there is room is asked once that is tidied.
+var fullTexts = []struct{ a, cmd, want string }{
+	// Those that are there are of one term.
+	{times(12, "nil=nil"), "a := nil", "a=nil"},
+	{times(12, "nil=nil"), "a := b", "a=b"},
+	{times(12, "nil=nil"), "a := a", "emp"},
+	{times(12, "a=a"), "a := b", "a=b"},
+	{times(12, "a=a"), "b := a", "b=a"},
+	{times(12, "_1=_1"), "a := nil", "a=nil"},
+	// They are the same, either way about.
+	{times(12, "a=b"), "c := nil", "a=b c=nil"},
+	{times(12, "a=b"), "a := nil", "a=nil"},
+	{times(12, "a=b"), "a := b", "a=b"},
+	{times(12, "a=b"), "b := b", "b=a"},
+	{times(6, "a=b b=a"), "c := d", "a=b c=d"},
+	{times(6, "a=b c=d"), "a := d", "c=d a=d"},
+	// They have names.
+	{times(12, "_1=_2"), "a := a", "emp"},
+	{times(12, "_1=a"), "b := a", "b=a"},
+	{times(6, "_1=a _1=b"), "c := a", "a=b c=a"},
+	{times(6, "_1=a _1=b"), "a := c", "a=c"},
+	// They all differ.
+	{twelveAlike, "e := e", "a=b a=c a=d b=c b=d c=d a=nil b=nil e=a"},
+	{twelveAlike, "a := nil", "b=c b=d b=e c=d c=e d=e b=nil a=nil"},
+	// Beside a cell.
+	{times(12, "nil=nil") + " b>nil", "a := [b]", "a=nil b>nil"},
+	{times(12, "nil=nil") + " b>nil", "b := [b]", "b=nil _1>nil"},
+	{times(12, "nil=nil") + " a>b", "b := [a]", "a>b"},
+	{times(12, "nil=nil") + " b>_1 _1>_2", "a := [b]", "b>a a>_2"},
+	{times(12, "a=b") + " b>c", "d := [a]", "a=b d=c b>c"},
+	{times(12, "a=b") + " b>c", "a := [a]", "a=c b>c"},
+	// Beside Nes.
+	{times(12, "nil=nil") + " a!nil b!nil", "c := b", "c=b a!nil b!nil"},
+	{times(12, "nil=nil") + " " + times(12, "a!b"), "a := b", "a=b"},
+	{times(12, "a=b") + " c!d c!d e!_1 _1!a c>_1", "e := b", "a=b e=b c!d _1!a c>_1"},
+	// Where segments have nothing Eqs are full, where one has something they are not.
+	{times(11, "nil=nil") + " a..nil", "b := nil", "a=nil b=nil; b=nil a!nil a..nil"},
+	{times(11, "nil=nil") + " a..nil", "a := b", "a=b; a=b _1!nil _1..nil"},
+	{times(11, "nil=nil") + " c>d a..nil", "b := [c]", "a=nil b=d c>d; b=d a!nil c>d a..nil"},
+	{times(10, "nil=nil") + " a..nil b..nil", "c := a", "a=nil b=nil c=a; a=nil c=a b!nil b..nil; b=nil c=a a!nil a..nil; c=a a!nil b!nil a..nil b..nil"},
+	{times(6, "nil=nil") + " " + times(6, "a..a"), "b := nil", "b=nil"},
+	// Others put nothing behind Eqs; and one less is not full.
+	{times(12, "nil=nil"), "new a", "a>nil"},
+	{times(12, "nil=nil") + " a>b", "[a] := c", "a>c"},
+	{times(12, "nil=nil") + " a>b", "free a", "emp"},
+	{times(11, "nil=nil"), "a := b", "a=b"},
+	// There are too many pieces, however it is tidied; or there is no fresh name.
+	{times(12, "nil=nil") + " a>nil b>nil c>nil d>nil e>nil _1>nil", "new a", "gave"},
+	{"_1=_2 _3=_4 _5=_6 _7=_8 _9=_10 " + times(7, "nil=nil"), "a := b", "gave"},
+	{"_1=_2 _3=_4 _5=_6 _7=_8 _9=_9 " + times(7, "nil=nil"), "a := b", "a=b"},
+	{"_1=_2 _3=_4 _5=_6 _7=_8 _9=_10 " + times(7, "nil=nil") + " b>c", "a := [b]", "gave"},
+	{"_1=_2 _3=_4 _5=_6 _7=_8 _9=_9 " + times(7, "nil=nil") + " b>c", "a := [b]", "a=c b>c"},
+	// It fails, there is no case, or there is no room ahead of it.
+	{times(12, "nil=nil"), "free a", "fault"},
+	{times(12, "nil=nil") + " b>nil", "a := [c]", "fault"},
+	{times(12, "nil=nil") + " a!a", "a := b", ""},
+	{times(12, "nil=nil") + " a..nil", "b := a", "refused"},
+}
+
+func TestExecOneOfFullOnes(t *testing.T) {
+	for _, c := range fullTexts {
+		l, v := checkExecOne(t, mustRead(t, c.a), mustCmd(t, c.cmd))
+		if got := outcome(l, v); got != c.want || v != impl.VdHolds && len(l) != 0 {
+			t.Errorf("ExecOne(%q, %q) = %q, not %q", c.a, c.cmd, got, c.want)
+		}
+		l, v = checkExec(t, mustReadAll(t, c.a), mustProg(t, c.cmd))
+		if got := outcome(l, v); got != c.want || v != impl.VdHolds && len(l) != 0 {
+			t.Errorf("Exec(%q, %q) = %q, not %q", c.a, c.cmd, got, c.want)
+		}
+	}
+}
+
+func TestExecOfFullOnes(t *testing.T) {
+	twelve := times(12, "nil=nil")
+	for _, c := range []struct{ states, prog, want string }{
+		{twelve, "", twelve},
+		{twelve, "a := nil b := a c := d", "a=nil b=a c=d"},
+		{twelve + "; " + times(12, "a=b") + "; a=c", "c := nil", "c=nil; a=b c=nil; c=nil"},
+		{twelve + " b>nil; c>nil", "a := [b]", "fault"},
+		{"c>nil; " + twelve + " b>nil", "a := [b]", "fault"},
+		{twelve + " b>nil", "a := [b] free b if a = nil { } { free a }", "a=nil"},
+		{twelve, "new a a := nil", "a=nil _1>nil"},
+		{twelve, "a := nil if a = b { c := b } { }", "a=nil a=b c=b; a=nil a!b"},
+		{times(11, "nil=nil"), "if b = nil { a := nil } { a := b }", "b=nil a=nil; a=b b!nil"},
+		{twelve, "a := nil while a ! nil ( a=nil ) { a := b }", "a=nil"},
+		{twelve, "a := nil while a = nil ( a=nil ) { a := b }", "inv"},
+		{twelve, "while a ! nil ( emp ) { b := nil } b := a", "a=nil b=a"},
+		// There has to be room for what is assumed, ahead of its being tidied.
+		{twelve, "if a = nil { } { }", "gave"},
+		{twelve, "if a ! nil { } { }", "gave"},
+		{twelve, "a := nil if a ! nil { } { }", "a=nil"},
+	} {
+		l, v := checkExec(t, listFrom(t, c.states), mustProg(t, c.prog))
+		if got := outcome(l, v); got != c.want || v != impl.VdHolds && len(l) != 0 {
+			t.Errorf("Exec(%q, %q) = %q, not %q", c.states, c.prog, got, c.want)
+		}
+	}
+	// Just MaxStates of them, and one more.
+	one, two := mustRead(t, twelve), mustRead(t, times(11, "nil=nil")+" a..nil")
+	for _, c := range []struct{ one, two, want int }{{39, 0, 39}, {40, 0, 40}, {0, 20, 40}, {1, 19, 39}, {2, 19, 40}, {3, 19, -1}, {1, 20, -1}, {0, 21, -1}} {
+		l, v := checkExec(t, slices.Concat(slices.Repeat(asns{one}, c.one), slices.Repeat(asns{two}, c.two)), mustProg(t, "b := c"))
+		if c.want >= 0 && (v != impl.VdHolds || len(l) != c.want) || c.want < 0 && (v != impl.VdGave || len(l) != 0) {
+			t.Errorf("of %d and %d come %d, %d", c.one, c.two, len(l), v)
+		}
+	}
+}
+
 // Of what is done and what is put, case by case, the first verdict counts.
 func TestExecTheFirstVerdictCounts(t *testing.T) {
 	fine, fault, gives := manyCases(t, 1), mustRead(t, "c>nil"), crowded(t, "b!nil c!nil d!nil")

@@ -155,7 +155,7 @@ func TestWhatComesOfACaseHolds(t *testing.T) {
 			if code != impl.RsDone {
 				t.Fatalf("Step(%s, %q) = %d, but DoCase(%s) = %s", describeState(s), progWord(cmds{c}), code, asnWord(open), asnWord(got))
 			}
-			if impl.AsnOk(got) && !holdsWithFresh(out, got, open) {
+			if !holdsWithFresh(out, got, open) {
 				t.Fatalf("DoCase(%s, %q) = %s in %s", asnWord(open), progWord(cmds{c}), asnWord(got), describeState(out))
 			}
 			steps++
@@ -181,8 +181,7 @@ func TestWhatIsDoneToACaseIsDoneToAll(t *testing.T) {
 			// One of them is not done, or can't be put, or they are too many.
 			if len(open) <= impl.MaxStates && !slices.ContainsFunc(open, func(x impl.Asn) bool {
 				done, w := impl.DoCase(x, c)
-				_, ok := impl.Put(nil, done)
-				return w == v || w == impl.VdHolds && !ok && v == impl.VdGave
+				return w == v || w == impl.VdHolds && !roomBy(tidiedBy(done)) && v == impl.VdGave
 			}) {
 				t.Fatalf("ExecOne(%s, %q) = %d", asnWord(a), progWord(cmds{c}), v)
 			}
@@ -194,7 +193,7 @@ func TestWhatIsDoneToACaseIsDoneToAll(t *testing.T) {
 		}
 		for i, x := range open {
 			done, w := impl.DoCase(x, c)
-			if tidy, ok := impl.Tidy(done); w != impl.VdHolds || !ok || len(l) != len(open) || !sameAsn(tidy, l[i]) {
+			if w != impl.VdHolds || len(l) != len(open) || !sameAsn(tidiedBy(done), l[i]) {
 				t.Fatalf("ExecOne(%s, %q) = %q, but of %s comes %s", asnWord(a), progWord(cmds{c}), wordsOfAll(l), asnWord(x), asnWord(done))
 			}
 		}
@@ -207,6 +206,60 @@ func TestWhatIsDoneToACaseIsDoneToAll(t *testing.T) {
 	})
 	if min(all, many, fails) < 500 {
 		t.Fatalf("%d are done, %d of them in many cases, %d are not", all, many, fails)
+	}
+}
+
+// fullOfEqs has as many of Eqs as there is room for; those that come are so in s, and most of variables.
+func (d *draw) fullOfEqs(s impl.State, a impl.Asn) impl.Asn {
+	l := clonedLists(a)
+	for len(l[0])+len(l[3]) < impl.MaxPure {
+		p := impl.Pair{A: d.below(impl.Vars + 2)}
+		if p.B = d.termAt(s, s.Terms[p.A]); p.B > impl.Vars+2 {
+			p.B = p.A
+		}
+		l[0] = append(l[0], p)
+	}
+	return asnOf(l)
+}
+
+// Where Eqs are full what is done to a case may be one too many of them: it is put all the same, and holds behind it.
+func TestWhatIsDoneToFullOnesIsPut(t *testing.T) {
+	var over, held, many int
+	drawnRoom(t, 8000, func(d *draw, s impl.State, a impl.Asn, _ bool) {
+		a = d.fullOfEqs(s, a)
+		c := d.cmdOn(a)
+		l, v := checkExecOne(t, a, c)
+		for i, open := range casesBy(a) {
+			done, w := impl.DoCase(open, c)
+			if w != impl.VdHolds || len(done.Eqs) <= impl.MaxPure {
+				continue
+			}
+			over++
+			// A case with so many of Eqs has no segments, and Eqs of a value and of what X is not are ten at most.
+			want := tidiedBy(done)
+			if len(done.Segs) > 0 || len(want.Eqs) > 11 {
+				t.Fatalf("DoCase(%s, %q) = %s", asnWord(open), progWord(cmds{c}), describe(done))
+			}
+			if one, w := impl.ExecOne(open, c); w != impl.VdHolds || len(one) != 1 || !sameAsn(one[0], want) {
+				t.Fatalf("ExecOne(%s, %q) = %v, %d, not %s", asnWord(open), progWord(cmds{c}), one, w, asnWord(want))
+			}
+			if v == impl.VdHolds && !sameAsn(l[i], want) {
+				t.Fatalf("ExecOne(%s, %q) = %q, but of %s comes %s", asnWord(a), progWord(cmds{c}), wordsOfAll(l), asnWord(open), asnWord(want))
+			}
+			if len(l) > 1 {
+				many++
+			}
+		}
+		if v != impl.VdHolds || !holdsBy(s, a) {
+			return
+		}
+		held++
+		if out, code := impl.Step(s, c, d.below(6)); code == impl.RsFault || code == impl.RsDone && !someHolds(out, l) {
+			t.Fatalf("ExecOne(%s, %q) = %q in %s", asnWord(a), progWord(cmds{c}), wordsOfAll(l), describeState(out))
+		}
+	})
+	if min(over, held, many) < 500 {
+		t.Fatalf("%d are over full, %d of them in many cases, %d hold", over, many, held)
 	}
 }
 

@@ -33,4 +33,11 @@ func TestReadmeOfKnowledge(t *testing.T) {
 	if tidy, ok := impl.Tidy(mustRead(t, "_1=a a=b b=a _2!c _1>_3")); !ok || asnWord(tidy) != "a=b a>_3" {
 		t.Errorf("Tidy = %q, %v", asnWord(tidy), ok)
 	}
+	full := mustRead(t, times(12, "nil=nil"))
+	if l, v := impl.ExecOne(full, mustCmd(t, "a := nil")); v != impl.VdHolds || wordsOfAll(l) != "a=nil" {
+		t.Errorf("ExecOne of full Eqs = %q, %d", wordsOfAll(l), v)
+	}
+	if l, ok := impl.Assume(full, 1, 0, true); ok || len(l) != 0 {
+		t.Errorf("Assume of full Eqs = %q, %v", wordsOfAll(l), ok)
+	}
 }

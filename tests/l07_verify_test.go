@@ -95,6 +95,9 @@ func TestVerifyKnownOnes(t *testing.T) {
 		{"a..nil", "b := a", "a=b b=nil", impl.VdPost},        // the last alone
 		{"emp", "new a", "emp", impl.VdPost},
 		{"emp", "while nil ! nil ( emp ) { }", "a=b", impl.VdPost},
+		{times(12, "nil=nil"), "a := nil", "a=nil", impl.VdHolds}, // it is tidied ahead of there being room
+		{times(12, "nil=nil"), "a := nil", "a=b", impl.VdPost},
+		{times(12, "a=b") + " b>c", "d := [a] free a", "d=c b=a", impl.VdHolds},
 		// VdFault.
 		{"emp", "free a", "emp", impl.VdFault},
 		{"a..nil", "free a", "emp", impl.VdFault},

@@ -59,6 +59,12 @@ var framedTexts = []struct {
 	// Of the cases that where the segment ahead has nothing comes first, and fails; where it has something there is no fresh name.
 	{"a!c b=d _9=_10 _1>_2 _3>_4 _5>_6 _7>_8 a..b", "free a", "emp", "c..d", impl.VdFault},
 	{"a!c b=d _9=_10 _1>_2 _3>_4 _5>_6 _7>_8 c..d", "free a", "emp", "a..b", impl.VdGave},
+	// Both are full of Eqs, and one more stands behind them till they are tidied.
+	{times(6, "nil=nil"), "a := nil", "a=nil", times(6, "b=b"), impl.VdHolds},
+	{"b>c", "a := [b]", "b>c", times(12, "d=d"), impl.VdHolds},
+	{"b>c", "a := [b]", "a=c b>c", times(12, "d=d"), -1}, // behind it they are too many
+	{times(6, "b=b"), "a := b", "a=c", times(6, "nil=nil"), impl.VdPost},
+	{times(12, "nil=nil"), "a := nil", "a=nil", "b>nil", impl.VdHolds},
 	// Extra has one of Changes, at either place in each of its lists.
 	{"a>nil", "new d", "a>nil d>nil", "d>nil", -1},
 	{"emp", "a := b", "emp", "a=c", -1},

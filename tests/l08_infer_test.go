@@ -189,6 +189,14 @@ var needlessTexts = []struct {
 	{"a>nil nil>nil", "free b", 0},
 	{"a!a a>nil", "free b", 0},
 	{"a=nil a>nil", "free b", -1},
+	// Eqs are full, and one more stands behind them till they are tidied.
+	{times(12, "nil=nil"), "a := nil", -1},
+	{times(12, "nil=nil") + " b>nil", "a := [b]", -1},
+	{times(12, "nil=nil") + " b>nil", "a := nil", 0},
+	{times(12, "nil=nil") + " b>nil a>nil c>nil", "d := [a] c := [b]", 2},
+	{times(12, "a=b") + " c>nil b>c", "c := [a] a := c b := c", 0},
+	{times(12, "nil=nil") + " c>nil b>nil", "a := nil free b", 0},
+	{times(12, "nil=nil") + " b>nil", "if a = b { } { }", -2},
 	// Branches.
 	{"a>nil b>nil", "if a = nil { free b } { free a }", 1},
 	{"a>nil b>nil", "if c = nil { free b } { free a }", -1},

@@ -43,6 +43,9 @@ var judgedTexts = []struct {
 	{"a..b\n" + dispose + "\na=nil\n", impl.VdInv},
 	{"a..nil\nwhile a ! nil ( a..nil ) { a := [a] }\na=nil\n", impl.VdInv},
 	{"emp\n" + sevenNew + "\nemp\n", impl.VdGave},
+	{times(12, "nil=nil") + "\na := nil\na=nil\n", impl.VdHolds}, // it is tidied ahead of there being room
+	{times(12, "nil=nil") + " b>nil\na := [b]\na=b b>nil\n", impl.VdPost},
+	{times(12, "a=b") + "\nif a = b { } { }\nemp\n", impl.VdGave},
 	{"a>nil b>nil c>nil d>nil e..nil\nnew e new e\nemp\n", impl.VdGave},
 }
 
